@@ -1,0 +1,65 @@
+"""The examples of the document, word for word."""
+
+import doctest
+import unittest
+from pathlib import Path
+
+EXAMPLES = {
+    10: r'''
+>>> P = ("zip", ("lane", "a", 0, 3), ("zip", ("lane", "b", 0, 2), ("lane", "c", 0, 4)))
+''',
+    11: r'''
+>>> from ziplanes.plans import is_plan, joined, lanes_of, path_of, rest_after, size_of
+>>> P = ("zip", ("lane", "a", 0, 3), ("zip", ("lane", "b", 0, 2), ("lane", "c", 0, 4)))
+>>> [is_plan(P), is_plan(("zip", P, P)), size_of(P), lanes_of(P)[1], path_of(P, "c"), joined(P, "a", 2)[1]]
+[True, False, 9, ('lane', 'b', 0, 2), [('zip', 2, 2), ('zip', 2, 3)], ('lane', 'a', 0, 5)]
+>>> [rest_after(P, 1), rest_after(P, 4)[2]]
+[('zip', ('zip', ('lane', 'b', 0, 2), ('lane', 'c', 0, 4)), ('lane', 'a', 1, 2)), ('zip', ('lane', 'b', 1, 1), ('lane', 'c', 1, 3))]
+''',
+    12: r'''
+>>> from ziplanes.places import car_at, cars_within, ends_of, first_difference, pieces_of, place_of, walk_cars
+>>> P = ("zip", ("lane", "a", 0, 3), ("zip", ("lane", "b", 0, 2), ("lane", "c", 0, 4)))
+>>> [place_of(P, ("c", 1)), car_at(P, 5), list(walk_cars(P, 6)), cars_within(P, 4), ends_of(P)]
+[6, ('b', 1), [('c', 1), ('c', 2), ('c', 3)], [('a', 2), ('b', 1), ('c', 1)], [(4, 'a'), (5, 'b'), (8, 'c')]]
+''',
+    13: r'''
+>>> from ziplanes.places import first_difference, pieces_of
+>>> P = ("zip", ("lane", "a", 0, 3), ("zip", ("lane", "b", 0, 2), ("lane", "c", 0, 4)))
+>>> far = ("zip", ("lane", "a", 0, 10 ** 30), ("zip", ("lane", "b", 0, 5), ("lane", "c", 0, 10 ** 20)))
+>>> [pieces_of(P, "a"), pieces_of(P, "c"), pieces_of(far, "c"), first_difference(P, far)]
+[[(0, 0, 2)], [(0, 3, 3), (1, 6, 1)], [(0, 3, 4), (4, 19, 2)], 6]
+''',
+}
+
+
+README = Path(__file__).parent.parent / "README.md"
+
+
+class Examples(unittest.TestCase):
+    def check(self, text, name):
+        with self.subTest(name=name):
+            told = []
+            test = doctest.DocTestParser().get_doctest(text, {}, name, None, 0)
+            result = doctest.DocTestRunner(verbose=False).run(test, out=told.append)
+            self.assertGreater(result.attempted, 0)
+            self.assertEqual(result.failed, 0, "".join(told))
+
+    def test_each_example(self):
+        for promise, text in EXAMPLES.items():
+            self.check(text, f"[{promise}]")
+
+    def test_readme(self):
+        fence = "`" * 3
+        blocks = [block for block in README.read_text().split(fence) if ">>>" in block]
+        self.assertEqual(len(blocks), 1)
+        self.check(blocks[0], "README.md")
+
+    def test_order_of_p(self):
+        from ziplanes.places import walk_cars
+        plan = ("zip", ("lane", "a", 0, 3), ("zip", ("lane", "b", 0, 2), ("lane", "c", 0, 4)))
+        told = " ".join(f"{name}{number}" for name, number in walk_cars(plan))
+        self.assertEqual(told, "a0 b0 a1 c0 a2 b1 c1 c2 c3")
+
+
+if __name__ == "__main__":
+    unittest.main()

@@ -1,0 +1,94 @@
+"""The interface of the document, and the plain form of the package's files."""
+
+import ast
+import builtins
+import importlib
+import inspect
+import unittest
+from pathlib import Path
+
+import ziplanes
+
+FOLDER = Path(ziplanes.__file__).parent
+
+INTERFACE = {
+    "plans": {
+        "is_plan": "(value)", "size_of": "(plan)", "lanes_of": "(plan)", "path_of": "(plan, name)",
+        "joined": "(plan, name, many)", "rest_after": "(plan, count)",
+    },
+    "places": {
+        "place_of": "(plan, car)", "car_at": "(plan, place)", "walk_cars": "(plan, first=0)",
+        "cars_within": "(plan, count)", "ends_of": "(plan)", "pieces_of": "(plan, name)",
+        "first_difference": "(one, two)",
+    },
+}
+
+BUILTINS = (
+    "len range enumerate zip min max sum abs sorted reversed int str bool bytes list tuple dict set frozenset "
+    "isinstance ord repr any all divmod pow type ValueError"
+).split()
+
+
+def files():
+    return sorted(path for path in FOLDER.iterdir() if path.name != "__pycache__")
+
+
+def nodes(kind):
+    for path in files():
+        for node in ast.walk(ast.parse(path.read_text(encoding="ascii"))):
+            if isinstance(node, kind):
+                yield path, node
+
+
+class Interface(unittest.TestCase):
+    def test_functions_are_defined_where_they_are_listed(self):
+        for file, functions in INTERFACE.items():
+            module = importlib.import_module("ziplanes." + file)
+            for name, signature in functions.items():
+                function = getattr(module, name)
+                self.assertEqual(function.__module__, module.__name__)
+                self.assertEqual(str(inspect.signature(function)), signature)
+
+
+class Form(unittest.TestCase):
+    def test_only_source_files(self):
+        for path in files():
+            self.assertRegex(path.name, r"^[a-z0-9_]+\.py$")
+
+    def test_sizes_and_characters(self):
+        for path in files():
+            text = path.read_bytes().decode("ascii")
+            self.assertRegex(text, r"\A[ -~\n]*\Z")
+            lines = text.split("\n")
+            self.assertLessEqual(len(lines), 399)
+            self.assertLessEqual(max(len(line) for line in lines), 120)
+
+    def test_functions_are_short(self):
+        for path, node in nodes(ast.FunctionDef):
+            self.assertLessEqual(node.end_lineno - node.lineno + 1, 40, (path, node.name))
+
+    def test_imports(self):
+        for path, node in nodes((ast.Import, ast.ImportFrom)):
+            self.assertIsInstance(node, ast.ImportFrom, path)
+            if node.module.startswith("ziplanes."):
+                source = FOLDER / (node.module.split(".")[1] + ".py")
+                defined = [getattr(item, "name", None) for item in ast.parse(source.read_text()).body]
+                for alias in node.names:
+                    self.assertIn(alias.name, defined, path)
+            else:
+                self.assertIn(node.module, ["heapq", "math", "itertools", "collections"], path)
+
+    def test_only_plain_builtins(self):
+        for path, node in nodes(ast.Name):
+            # A doctest of another file may have put `_` among the builtins.
+            if node.id != "_" and hasattr(builtins, node.id):
+                self.assertIn(node.id, BUILTINS, (path, node.lineno))
+
+    def test_no_floats_and_no_state(self):
+        for path, node in nodes((ast.Constant, ast.Div, ast.Global, ast.Nonlocal)):
+            self.assertIsInstance(node, ast.Constant, path)
+            self.assertNotIsInstance(node.value, float, path)
+
+
+if __name__ == "__main__":
+    unittest.main()

@@ -1,0 +1,1 @@
+"""Ziplanes: lanes that merge like a zipper."""
