@@ -89,6 +89,29 @@ def drawn_plans(seed, many, **more):
     return [drawn_plan(source, **more) for _ in range(many)]
 
 
+def trees_over(lanes):
+    """All trees over a row."""
+    if len(lanes) == 1:
+        return [lanes[0]]
+    return [
+        ("zip", one, two) for cut in range(1, len(lanes))
+        for one in trees_over(lanes[:cut]) for two in trees_over(lanes[cut:])
+    ]
+
+
+def shape_in(plan):
+    return "l" if plan[0] == "lane" else plan[0][0] + shape_in(plan[1]) + shape_in(plan[2])
+
+
+def shapes_with(lanes):
+    """All shapes of trees with so many lanes, ascending."""
+    return sorted(shape_in(tree) for tree in trees_over([lane("a", 1)] * lanes))
+
+
+def names_in(plan):
+    return [car[0] for car in order_of(plan)]
+
+
 def lane_name(at):
     return "l" + chr(97 + at // 26) + chr(97 + at % 26)
 

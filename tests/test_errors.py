@@ -4,11 +4,19 @@ import unittest
 
 from brute import FAR, P, Always, chain, lane
 from ziplanes import errors
-from ziplanes.errors import InvalidCarError, InvalidNameError, InvalidNumberError, InvalidPlanError, LaneError
+from ziplanes.delays import delay_of, first_delayed, greatest_delay
+from ziplanes.errors import (
+    InvalidCarError, InvalidLabelsError, InvalidNameError, InvalidNumberError, InvalidPlanError, InvalidRowError,
+    InvalidShapeError, LaneError,
+)
+from ziplanes.labels import labels_of, plan_with, plans_with, shape_of
 from ziplanes.places import (
     car_at, cars_within, ends_of, first_difference, pieces_of, place_of, walk_cars,
 )
 from ziplanes.plans import joined, lanes_of, path_of, rest_after, size_of
+from ziplanes.rows import (
+    count_trees, count_with_place, earliest_place, earliest_tree, latest_place, nth_tree, possible_places, tree_rank,
+)
 
 NAMES = [
     "InvalidPlanError", "InvalidCarError", "InvalidNameError", "InvalidNumberError", "InvalidRowError",
@@ -27,6 +35,30 @@ NO_CARS = [
     ("a", 0, 0), (0, "a"), (["a"], 0), "a0", None, 0, (), Always(), (Always(), 0), ("a", None), {"a": 0},
 ]
 NO_INTEGERS = [True, False, None, "1", b"1", 1.0, [1], (1,), (), {}, Always(), -1]
+ROW = [lane("a", 3), lane("b", 2), lane("c", 4)]
+LETTERS = "abcdefghijklm"
+
+
+class OddList(list):
+    """A kind of its own, not exactly a list."""
+
+
+NO_ROWS = [
+    None, True, 0, "a", (), [], {}, object(), Always(), tuple(ROW), OddList(ROW), lane("a", 1), [P], [lane("a", 1), P],
+    [lane("a", 1), lane("a", 2)], [lane("a", 1), lane("b", 2), lane("a", 0, 9)], [lane(name, 0) for name in LETTERS],
+    [list(lane("a", 1))], [lane("a", True)], [lane("a", 1, False)], [lane("a", -1)], [lane("A", 1)], ["a"], [None],
+    [[]], [()], [Always()], [lane(Always(), 1)], [lane("a", 1), None], {"a": lane("a", 1)}, [lane(["a"], 1)],
+]
+NO_LABELS = [
+    None, True, 0, "abc", (), [], {}, object(), Always(), ("a",), OddList(["a"]), ["a"] * 101, list("abcdefghi"), ["A"],
+    [""], ["abcdefghi"], ["a", 1], ["a", True], ["a", None], ["a", b"a"], [["a"]], [("a",)], ["a1"], ["a", "\u00e9"],
+    [Always()], ["a b"], {"a": 1}, [["a"], "a"], [lane("a", 1)],
+]
+NO_SHAPES = [
+    None, True, 0, b"l", (), [], ["l"], {}, object(), Always(), "", "z", "zl", "ll", "lz", "lzl", "zlll", "zllz", "zzll",
+    "L", "ZLL", "a", " l", "l ", "zl l", "l\n", "zlx", "1", "z" * 4000, "l" * 4000, "zl" * 2000,
+    "tll", "ztlll", "zltll", "tzlll", "t", "tl", "zl" * 8 + "l", "z" * 8 + "l" * 9, "zl" * 39 + "l", "zl" * 40 + "l",
+]
 
 
 def calls_of_plan():
@@ -35,6 +67,16 @@ def calls_of_plan():
         (size_of, ()), (lanes_of, ()), (path_of, (7,)), (joined, (7, -1)), (rest_after, (-1,)),
         (place_of, (7,)), (car_at, (-1,)), (cars_within, (-1,)), (ends_of, ()), (pieces_of, (7,)),
         (walked, (-1,)), (first_difference, (P,)), (first_difference, (7,)),
+        (delay_of, (7, 7, -1)), (first_delayed, (7, -1)), (greatest_delay, (7, -1)), (tree_rank, ()),
+        (labels_of, (-1,)), (shape_of, ()),
+    ]
+
+
+def calls_of_row():
+    """Each function with a row first, with whatever behind it that may be wrong too."""
+    return [
+        (nth_tree, (-1,)), (earliest_place, (7,)), (latest_place, (7,)), (earliest_tree, (7,)), (possible_places, (7,)),
+        (count_with_place, (7, -1)), (count_with_place, (("a", 0), -1)), (count_with_place, (7, 0)),
     ]
 
 
@@ -112,6 +154,86 @@ class WrongArguments(unittest.TestCase):
             function(P, 9)
             function(lane("a", 0), 0)
 
+    def test_delays(self):
+        for car in NO_CARS:
+            self.wrong(InvalidCarError, delay_of, P, car, "a", 1)
+            self.wrong(InvalidCarError, delay_of, P, car, "d", -1)
+        # Cars that are there only when others have joined are none of the plan.
+        self.wrong(InvalidCarError, delay_of, P, ("a", 3), "a", 5)
+        for name in NO_NAMES:
+            self.wrong(InvalidNameError, delay_of, P, ("a", 0), name, 1)
+            for function in [first_delayed, greatest_delay]:
+                self.wrong(InvalidNameError, function, P, name, 1)
+                self.wrong(InvalidNameError, function, P, name, -1)
+            self.wrong(InvalidNameError, delay_of, P, ("a", 0), name, True)
+        for many in NO_INTEGERS + [10 ** 30 + 1]:
+            self.wrong(InvalidNumberError, delay_of, P, ("a", 0), "a", many)
+            self.wrong(InvalidNumberError, first_delayed, P, "a", many)
+            self.wrong(InvalidNumberError, greatest_delay, P, "a", many)
+            self.wrong(InvalidNumberError, greatest_delay, lane("a", 0), "a", many)
+
+    def test_row_is_checked_first(self):
+        for function, rest in calls_of_row():
+            for value in NO_ROWS:
+                self.wrong(InvalidRowError, function, value, *rest)
+
+    def test_cars_of_rows(self):
+        for function in [earliest_place, latest_place, earliest_tree, possible_places]:
+            for car in NO_CARS + [("c", 4)]:
+                self.wrong(InvalidCarError, function, ROW, car)
+            self.wrong(InvalidCarError, function, [lane("a", 0, 3)], ("a", 3))
+            self.wrong(InvalidCarError, function, [lane("a", 2, 3)], ("a", 2))
+            self.wrong(InvalidCarError, function, [lane("a", 2, 3)], ("a", 5))
+        for car in NO_CARS:
+            for place in [0, -1, True, None, 9]:
+                self.wrong(InvalidCarError, count_with_place, ROW, car, place)
+
+    def test_places_of_rows(self):
+        for place in NO_INTEGERS + [9, 10 ** 30]:
+            self.wrong(InvalidNumberError, count_with_place, ROW, ("a", 0), place)
+        self.wrong(InvalidNumberError, count_with_place, [lane("a", 0), lane("b", 1)], ("b", 0), 1)
+        self.assertEqual(count_with_place(ROW, ("c", 3), 8), 1)
+
+    def test_index(self):
+        for index in NO_INTEGERS + [2, 10 ** 30]:
+            self.wrong(InvalidNumberError, nth_tree, ROW, index)
+        self.wrong(InvalidNumberError, nth_tree, [lane("a", 1)], 1)
+        self.wrong(InvalidNumberError, nth_tree, [lane(name, 1) for name in LETTERS[:12]], 58786)
+        self.assertEqual(nth_tree([lane("a", 1)], 0), lane("a", 1))
+
+    def test_numbers_of_lanes(self):
+        for lanes in NO_INTEGERS + [0, 13, 10 ** 30]:
+            self.wrong(InvalidNumberError, count_trees, lanes)
+
+    def test_trees(self):
+        for plan in [("then", lane("a", 1), lane("b", 1)), ("zip", lane("a", 1), ("then", lane("b", 1), lane("c", 0))),
+                     chain(13, 1), chain(13, 0, True), chain(40, 1)]:
+            self.wrong(InvalidPlanError, tree_rank, plan)
+        self.assertEqual([tree_rank(chain(12, 1)), tree_rank(chain(12, 1, True))], [0, 58785])
+
+    def test_count_of_labels(self):
+        for count in NO_INTEGERS + [10, 400, 10 ** 30]:
+            self.wrong(InvalidNumberError, labels_of, P, count)
+        for plan in [FAR, lane("a", 401), chain(40, 11)]:
+            self.wrong(InvalidNumberError, labels_of, plan, 401)
+            self.assertEqual(len(labels_of(plan, 400)), 400)
+        self.wrong(InvalidNumberError, labels_of, lane("a", 0), 1)
+        self.wrong(InvalidNumberError, labels_of, lane("a", 399), 400)
+
+    def test_labels(self):
+        for labels in NO_LABELS:
+            self.wrong(InvalidLabelsError, plans_with, labels)
+            self.wrong(InvalidLabelsError, plan_with, "l", labels)
+            self.wrong(InvalidLabelsError, plan_with, "zl" * 7 + "l", labels)
+
+    def test_shapes(self):
+        for shape in NO_SHAPES:
+            self.wrong(InvalidShapeError, plan_with, shape, ["a"])
+            for labels in NO_LABELS:
+                self.wrong(InvalidShapeError, plan_with, shape, labels)
+        self.assertIsNone(plan_with("zl" * 7 + "l", ["a"]))
+        self.assertIsNone(plan_with("z" * 7 + "l" * 8, ["a"]))
+
     def test_all_are_value_errors(self):
         with self.assertRaises(ValueError):
             size_of(None)
@@ -124,6 +246,10 @@ class WrongArguments(unittest.TestCase):
         for function, value in [(size_of, broken), (ends_of, broken)]:
             self.wrong(InvalidPlanError, function, value)
         self.wrong(InvalidCarError, place_of, P, car)
+        row, labels = [lane("a", 1), ["lane", "b", 0, 1]], ["a", ["b"]]
+        self.wrong(InvalidRowError, nth_tree, row, 0)
+        self.wrong(InvalidLabelsError, plans_with, labels)
+        self.assertEqual([row, labels], [[lane("a", 1), ["lane", "b", 0, 1]], ["a", ["b"]]])
         self.assertEqual(broken, [["lane", "a", 0, 3], "b"])
         self.assertEqual(car, ["a", 0])
         self.assertEqual(P, ("zip", lane("a", 3), ("zip", lane("b", 2), lane("c", 4))))
@@ -143,6 +269,21 @@ class Parameters(unittest.TestCase):
         self.assertEqual(ends_of(plan=P), [(4, "a"), (5, "b"), (8, "c")])
         self.assertEqual(pieces_of(name="a", plan=P), [(0, 0, 2)])
         self.assertEqual(first_difference(two=FAR, one=P), 6)
+        self.assertEqual(delay_of(many=2, name="a", car=("c", 1), plan=P), 1)
+        self.assertEqual(first_delayed(many=2, name="a", plan=P), ("c", 1))
+        self.assertEqual(greatest_delay(many=2, name="a", plan=P), 2)
+        self.assertEqual(count_trees(lanes=4), 5)
+        self.assertEqual(nth_tree(index=0, row=ROW), P)
+        self.assertEqual(tree_rank(plan=P), 0)
+        self.assertEqual(earliest_place(car=("c", 1), row=ROW), 3)
+        self.assertEqual(latest_place(car=("c", 1), row=ROW), 6)
+        self.assertEqual(earliest_tree(car=("c", 1), row=ROW), ("zip", ("zip", *ROW[:2]), ROW[2]))
+        self.assertEqual(possible_places(car=("b", 1), row=ROW), [5, 6])
+        self.assertEqual(count_with_place(place=3, car=("c", 1), row=ROW), 1)
+        self.assertEqual(labels_of(count=3, plan=P), ["a", "b", "a"])
+        self.assertEqual(shape_of(plan=P), "zlzll")
+        self.assertEqual(plan_with(labels=list("abacabccc"), shape="zlzll"), P)
+        self.assertEqual(plans_with(labels=list("abacabccc")), [P])
 
 
 if __name__ == "__main__":

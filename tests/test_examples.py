@@ -29,6 +29,33 @@ EXAMPLES = {
 >>> [pieces_of(P, "a"), pieces_of(P, "c"), pieces_of(far, "c"), first_difference(P, far)]
 [[(0, 0, 2)], [(0, 3, 3), (1, 6, 1)], [(0, 3, 4), (4, 19, 2)], 6]
 ''',
+    14: r'''
+>>> from ziplanes.delays import delay_of, first_delayed, greatest_delay
+>>> P = ("zip", ("lane", "a", 0, 3), ("zip", ("lane", "b", 0, 2), ("lane", "c", 0, 4)))
+>>> [delay_of(P, ("c", 1), "a", 2), delay_of(P, ("b", 1), "a", 2), first_delayed(P, "a", 2), greatest_delay(P, "a", 2)]
+[1, 0, ('c', 1), 2]
+>>> deep = ("zip", ("lane", "a", 0, 100), ("zip", ("lane", "b", 0, 1), ("lane", "c", 0, 5)))
+>>> [greatest_delay(deep, "b", 1), greatest_delay(deep, "a", 10 ** 30), first_delayed(deep, "c", 0)]
+[2, 0, None]
+''',
+    16: r'''
+>>> from ziplanes.rows import count_trees, count_with_place, earliest_place, latest_place, nth_tree, possible_places, tree_rank
+>>> a, b, c = ("lane", "a", 0, 3), ("lane", "b", 0, 2), ("lane", "c", 0, 4)
+>>> [count_trees(4), nth_tree([a, b, c], 0) == ("zip", a, ("zip", b, c)), tree_rank(("zip", ("zip", a, b), c))]
+[5, True, 1]
+>>> [earliest_place([a, b, c], ("c", 1)), latest_place([a, b, c], ("c", 1)), possible_places([a, b, c], ("b", 1))]
+[3, 6, [5, 6]]
+>>> [count_with_place([a, b, c], ("c", 1), place) for place in [3, 4]]
+[1, 0]
+''',
+    20: r'''
+>>> from ziplanes.labels import labels_of, plan_with, plans_with, shape_of
+>>> P = ("zip", ("lane", "a", 0, 3), ("zip", ("lane", "b", 0, 2), ("lane", "c", 0, 4)))
+>>> [shape_of(P), "".join(labels_of(P, 9)), plan_with("zlzll", labels_of(P, 9)) == P, plan_with("zzlll", list("abacabccc"))]
+['zlzll', 'abacabccc', True, None]
+>>> [len(plans_with(list("abacabccc"))), [shape_of(plan) for plan in plans_with(list("abc"))], plan_with("zzlll", list("abc"))[1]]
+[1, ['zlzll', 'zzlll'], ('zip', ('lane', 'a', 0, 1), ('lane', 'c', 0, 1))]
+''',
 }
 
 

@@ -1,9 +1,12 @@
 """[2]: what holds for all plans."""
 
+import itertools
 import random
 import unittest
 
-from brute import chain, drawn_plans, lane, lanes_in, order_of, plan_over
+from brute import chain, drawn_plans, lane, lanes_in, names_in, order_of, plan_over, shapes_with, trees_over
+from ziplanes.delays import delay_of
+from ziplanes.labels import plan_with, shape_of
 from ziplanes.places import car_at, pieces_of, place_of
 from ziplanes.plans import is_plan, joined, path_of, rest_after, size_of
 
@@ -70,11 +73,30 @@ class Guarantees(unittest.TestCase):
                     now = joined(plan, row[1], many)
                     for car in order_of(plan):
                         delay = place_of(now, car) - place_of(plan, car)
+                        self.assertEqual(delay_of(plan, car, row[1], many), delay)
                         if car[0] == row[1]:
                             self.assertEqual(delay, 0)
                         else:
                             most = many * 2 ** zips_above_meeting(plan, car[0], row[1])
                             self.assertTrue(0 <= delay <= most)
+
+    def test_at_most_one_plan_for_a_shape_and_an_order_of_names(self):
+        source = random.Random(26)
+        for _ in range(40):
+            names = source.sample("abcd", source.randint(1, 4))
+            found = {}
+            for order in itertools.permutations([lane(name, source.randint(1, 4)) for name in names]):
+                for tree in trees_over(order):
+                    found.setdefault((shape_of(tree), tuple(names_in(tree))), []).append(tree)
+            for (shape, labels), trees in found.items():
+                self.assertEqual([plan_with(shape, list(labels))], trees)
+
+    def test_exactly_one_plan_if_all_cars_have_different_names(self):
+        for many in range(1, 9):
+            labels = list("chbgafde"[:many])
+            for shape in shapes_with(many):
+                plan = plan_with(shape, labels)
+                self.assertEqual((shape_of(plan), names_in(plan)), (shape, labels))
 
     def test_places_in_the_order(self):
         for plan in drawn_plans(25, 50):

@@ -21,6 +21,19 @@ INTERFACE = {
         "cars_within": "(plan, count)", "ends_of": "(plan)", "pieces_of": "(plan, name)",
         "first_difference": "(one, two)",
     },
+    "delays": {
+        "delay_of": "(plan, car, name, many)", "first_delayed": "(plan, name, many)",
+        "greatest_delay": "(plan, name, many)",
+    },
+    "rows": {
+        "count_trees": "(lanes)", "nth_tree": "(row, index)", "tree_rank": "(plan)",
+        "earliest_place": "(row, car)", "latest_place": "(row, car)", "earliest_tree": "(row, car)",
+        "possible_places": "(row, car)", "count_with_place": "(row, car, place)",
+    },
+    "labels": {
+        "labels_of": "(plan, count)", "shape_of": "(plan)", "plan_with": "(shape, labels)",
+        "plans_with": "(labels)",
+    },
 }
 
 BUILTINS = (
@@ -38,6 +51,13 @@ def nodes(kind):
         for node in ast.walk(ast.parse(path.read_text(encoding="ascii"))):
             if isinstance(node, kind):
                 yield path, node
+
+
+def names_bound(item):
+    """The names that a statement of a file gives to functions, classes and values of this file."""
+    if isinstance(item, ast.Assign):
+        return [target.id for target in item.targets]
+    return [item.name] if hasattr(item, "name") else []
 
 
 class Interface(unittest.TestCase):
@@ -72,7 +92,7 @@ class Form(unittest.TestCase):
             self.assertIsInstance(node, ast.ImportFrom, path)
             if node.module.startswith("ziplanes."):
                 source = FOLDER / (node.module.split(".")[1] + ".py")
-                defined = [getattr(item, "name", None) for item in ast.parse(source.read_text()).body]
+                defined = [name for item in ast.parse(source.read_text()).body for name in names_bound(item)]
                 for alias in node.names:
                     self.assertIn(alias.name, defined, path)
             else:

@@ -57,7 +57,12 @@ def ends_of(plan):
 
 def pieces_of(plan, name):
     """The ascending list of (number, place, step) for the cars of a lane that begin a piece."""
-    lane, path = way_to(tree_of(plan), name)
+    return pieces_on_way(way_to(tree_of(plan), name))
+
+
+def pieces_on_way(way):
+    """The pieces of a lane on its way."""
+    lane, path = way
     first, many = lane[2], lane[3]
     if many == 1:
         return [(first, place_on(path, 0), 0)]

@@ -4,6 +4,8 @@ from ziplanes.errors import InvalidNameError, InvalidPlanError
 from ziplanes.trees import check_number, counted, from_one, is_integer, is_name, ways_of
 
 MOST_LANES = 40
+# So many lanes, and one merge less than lanes.
+MOST_PARTS = 79
 MOST_JOINING = 10 ** 30
 
 
@@ -27,30 +29,43 @@ def looks_like_merge(value):
     )
 
 
-def is_plan(value):
-    """Whether any value is a plan."""
+def parts_of(value):
+    """The merges and lanes of a plan, each merge ahead of its sides; an empty list if it is none."""
     names = set()
-    merges = 0
+    parts = []
     waiting = [value]
     while waiting:
         part = waiting.pop()
-        if is_lane(part) and part[1] not in names:
-            names.add(part[1])
-        elif looks_like_merge(part) and merges < MOST_LANES - 1:
-            # So many merges have one lane more. To stop there bounds the work for any value,
-            # also for one of 10 ** 5 levels, or one that holds the same tuple again and again.
-            merges += 1
+        # To stop behind so many parts bounds the work for any value, also for one of 10 ** 5
+        # levels, or one that holds the same tuple again and again.
+        if len(parts) == MOST_PARTS:
+            return []
+        if looks_like_merge(part):
             waiting.extend([part[2], part[1]])
+        elif is_lane(part) and part[1] not in names:
+            names.add(part[1])
         else:
-            return False
-    return True
+            return []
+        parts.append(part)
+    return parts
+
+
+def parts_in(plan):
+    """The merges and lanes of a plan, each merge ahead of its sides; InvalidPlanError if it is none."""
+    parts = parts_of(plan)
+    if not parts:
+        raise InvalidPlanError("not a plan")
+    return parts
+
+
+def is_plan(value):
+    """Whether any value is a plan."""
+    return len(parts_of(value)) > 0
 
 
 def tree_of(plan):
     """The tree of a plan; InvalidPlanError if it is none."""
-    if not is_plan(plan):
-        raise InvalidPlanError("not a plan")
-    return counted(plan)
+    return counted(parts_in(plan)[0])
 
 
 def way_to(tree, name):
