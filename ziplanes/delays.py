@@ -1,14 +1,14 @@
 """Delays: how much later cars leave if others join at the end of a lane."""
 
-from ziplanes.places import pieces_on_way, place_in
+from ziplanes.places import pieces_on_way, place_of
 from ziplanes.plans import MOST_JOINING, joined, tree_of, way_to
 from ziplanes.trees import car_in, check_number, place_on, ways_of
 
 
 def delay_of(plan, car, name, many):
     """By how many places a car leaves later if so many cars join at the end of a lane."""
-    place = place_in(tree_of(plan), car)
-    return place_in(tree_of(joined(plan, name, many)), car) - place
+    place = place_of(plan, car)
+    return place_of(joined(plan, name, many), car) - place
 
 
 def first_places(lane, path):
@@ -26,11 +26,10 @@ def first_places(lane, path):
 
 def first_delayed(plan, name, many):
     """The delayed car with the least place in the plan; None if no car is delayed."""
-    tree = tree_of(plan)
-    lane, path = way_to(tree, name)
+    lane, path = way_to(plan, name)
     check_number(many, MOST_JOINING)
     places = first_places(lane, path)
-    return car_in(tree, min(places)) if many > 0 and places else None
+    return car_in(tree_of(plan), min(places)) if many > 0 and places else None
 
 
 def greatest_delay_on(way, later):

@@ -5,7 +5,7 @@ from math import comb
 from ziplanes.errors import InvalidCarError, InvalidNumberError, InvalidPlanError, InvalidRowError
 from ziplanes.labels import shape_of
 from ziplanes.plans import is_lane
-from ziplanes.trees import check_number, is_car, risen
+from ziplanes.trees import check_number, is_car, place_on
 
 MOST_IN_ROW = 12
 
@@ -103,8 +103,8 @@ def growths_of(row, at):
     """The parts of a row around a lane, each behind the parts in it, with the ways to get it.
 
     A part is (low, high): the lanes from low on, without high. A way to get it is
-    (inner, block, merge): the zip of a smaller part around the lane and a block of lanes
-    beside it, and what this merge is in the path of the lane.
+    (inner, block, path): the zip of a smaller part around the lane and a block of lanes
+    beside it, and the path from the smaller part up, with this merge alone.
     """
     ahead = [0]
     for lane in row:
@@ -112,8 +112,8 @@ def growths_of(row, at):
     found = []
     for low in range(at, -1, -1):
         for high in range(at + 1, len(row) + 1):
-            lefts = [((cut, high), (low, cut), ("zip", 2, ahead[cut] - ahead[low])) for cut in range(low + 1, at + 1)]
-            rights = [((low, cut), (cut, high), ("zip", 1, ahead[high] - ahead[cut])) for cut in range(at + 1, high)]
+            lefts = [((cut, high), (low, cut), [("zip", 2, ahead[cut] - ahead[low])]) for cut in range(low + 1, at + 1)]
+            rights = [((low, cut), (cut, high), [("zip", 1, ahead[high] - ahead[cut])]) for cut in range(at + 1, high)]
             found.append(((low, high), lefts + rights))
     return found
 
@@ -127,7 +127,8 @@ def least_numbers(growths, number, sign):
     """
     found = {}
     for part, ways in growths:
-        found[part] = min([sign * risen(merge, sign * found[inner]) for inner, _, merge in ways], default=sign * number)
+        numbers = [sign * place_on(path, sign * found[inner]) for inner, _, path in ways]
+        found[part] = min(numbers, default=sign * number)
     return found
 
 
@@ -153,11 +154,11 @@ def latest_place(row, car):
 
 def earliest_tree_over(row, part, growths, numbers):
     """A tree over a part of a row in which a car has the least number."""
-    for inner, block, merge in growths[part]:
-        if risen(merge, numbers[inner]) == numbers[part]:
+    for inner, block, path in growths[part]:
+        if place_on(path, numbers[inner]) == numbers[part]:
             tree = earliest_tree_over(row, inner, growths, numbers)
             beside = tree_with(nth_shape(block[1] - block[0], 0), row[block[0]:block[1]])
-            return ("zip", tree, beside) if merge[1] == 1 else ("zip", beside, tree)
+            return ("zip", tree, beside) if path[0][1] == 1 else ("zip", beside, tree)
     return row[part[0]]
 
 
@@ -170,11 +171,11 @@ def earliest_tree(row, car):
 def counts_from(found, ways):
     """A dict of the numbers that a car gets in these ways: in how many trees, given those of smaller parts."""
     counts = {}
-    for inner, block, merge in ways:
+    for inner, block, path in ways:
         blocks = count_forests(1, block[1] - block[0])
         for number, many in found[inner].items():
-            risen_number = risen(merge, number)
-            counts[risen_number] = counts.get(risen_number, 0) + many * blocks
+            behind = place_on(path, number)
+            counts[behind] = counts.get(behind, 0) + many * blocks
     return counts
 
 

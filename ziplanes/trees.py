@@ -1,8 +1,12 @@
 """What the other files share: kinds of values, merges, and plans with their numbers of cars.
 
-A tree is a plan in which each merge has its number of cars behind its sides:
-(kind, one, two, size). A lane stays as it is, so item 3 of every tree is its
-number of cars, and no way down a plan has to count them again.
+The parts of a plan are the list of its merges and lanes, each merge ahead of its
+side 1, and that ahead of its side 2.
+
+A tree is a plan in which each merge has its number of cars behind its sides, and
+behind that the merge of the plan: (kind, one, two, size, plan). A lane stays as it
+is, so item 3 of every tree is its number of cars, and no way down a plan has to
+count them again.
 
 A way is a tuple (lane, path). The functions here take valid values only.
 """
@@ -17,7 +21,7 @@ def is_integer(value):
 
 def is_name(value):
     """Whether any value is the name of a lane."""
-    return isinstance(value, str) and 1 <= len(value) <= 8 and all(["a" <= sign <= "z" for sign in value])
+    return isinstance(value, str) and len(value) <= 8 and value.isascii() and value.isalpha() and value.islower()
 
 
 def is_car(value):
@@ -35,86 +39,86 @@ def check_number(value, most):
         raise InvalidNumberError("not an integer in the range")
 
 
-def counted(plan):
-    """The tree of a plan."""
-    if plan[0] == "lane":
-        return plan
-    one, two = counted(plan[1]), counted(plan[2])
-    return (plan[0], one, two, one[3] + two[3])
+def counted(parts):
+    """The tree of a plan with these parts."""
+    trees = []
+    # From the last part on, the two sides of a merge are done when it comes, side 1 as the last one.
+    for part in reversed(parts):
+        if part[0] == "lane":
+            trees.append(part)
+        else:
+            one, two = trees.pop(), trees.pop()
+            trees.append((part[0], one, two, one[3] + two[3], part))
+    return trees[0]
 
 
 def ways_of(tree):
     """The ways of all lanes from left to right."""
-    if tree[0] == "lane":
-        return [(tree, [])]
-    kind, one, two, _ = tree
-    return (
-        [(lane, [*path, (kind, 1, two[3])]) for lane, path in ways_of(one)]
-        + [(lane, [*path, (kind, 2, one[3])]) for lane, path in ways_of(two)]
-    )
+    found = []
+    waiting = [(tree, [])]
+    while waiting:
+        part, path = waiting.pop()
+        if part[0] == "lane":
+            found.append((part, path))
+        else:
+            kind, one, two = part[:3]
+            waiting.append((two, [(kind, 2, one[3]), *path]))
+            waiting.append((one, [(kind, 1, two[3]), *path]))
+    return found
 
 
-def risen(merge, number):
-    """The number behind a merge of a path that a car gets, given its number on its side."""
-    kind, side, other = merge
-    if kind == "zip":
-        return number + min(number + side - 1, other)
-    return number if side == 1 else number + other
-
-
-def sunk(merge, count):
-    """How many of the first cars behind a merge of a path are from its side, if that never ends.
-
-    This counts the numbers for which risen(merge, number) < count.
-    """
-    kind, side, other = merge
-    if kind == "zip":
-        return max((count + 2 - side) // 2, count - other)
-    return count if side == 1 else max(0, count - other)
+def find_way(parts, name):
+    """The way of the lane with a name; None if no lane has it."""
+    lane = None
+    path = []
+    # The numbers of the cars of the trees that are done, as in counted, and where the lane is among them.
+    sizes = []
+    at = -1
+    for part in reversed(parts):
+        if part[0] == "lane":
+            if part[1] == name:
+                lane, at = part, len(sizes)
+            sizes.append(part[3])
+        else:
+            one, two = sizes.pop(), sizes.pop()
+            if at == len(sizes):
+                path.append((part[0], 2, one))
+            elif at > len(sizes):
+                path.append((part[0], 1, two))
+                at = len(sizes)
+            sizes.append(one + two)
+    return None if lane is None else (lane, path)
 
 
 def place_on(path, at):
     """The place of car number at, from 0 on, of a lane with this path."""
-    for merge in path:
-        at = risen(merge, at)
-    return at
-
-
-def count_on(path, count):
-    """How many of the first cars are from a lane with this path, if the lane never ends."""
-    for merge in reversed(path):
-        count = sunk(merge, count)
-    return count
-
-
-def bends_on(path, many):
-    """The ascending list of the cars, from 0 on, whose step may not be that of the car ahead.
-
-    It is complete, but may hold cars too many. The first car is in it, the last one is not.
-    """
-    found = [0]
-    for height, (kind, side, other) in enumerate(path):
+    for kind, side, other in path:
         if kind == "zip":
-            # The zip doubles steps below this number and keeps those from it on. So only the steps
-            # of the first car that reaches it, and of the car ahead of that, can be other ones.
-            turn = max(0, other - side + 1)
-            at = count_on(path[:height], turn)
-            found.extend([at - 1, at])
-    return sorted(set([bend for bend in found if 0 <= bend < many - 1]))
+            turns = at + side - 1
+            at = at + (turns if turns < other else other)
+        elif side == 2:
+            at = at + other
+    return at
 
 
 def from_one(tree, count):
     """How many of the first cars of a merge are from its side 1."""
-    kind, one, two, _ = tree
-    return min(one[3], sunk((kind, 1, two[3]), count))
+    one, two = tree[1][3], tree[2][3]
+    if tree[0] == "zip":
+        return min(one, max((count + 1) // 2, count - two))
+    return min(one, count)
 
 
 def car_in(tree, place):
     """The car at a place of a tree."""
     while tree[0] != "lane":
-        ahead = from_one(tree, place)
-        if from_one(tree, place + 1) > ahead:
-            tree, place = tree[1], ahead
+        kind, one, two = tree[:3]
+        if kind == "zip" and place < 2 * min(one[3], two[3]):
+            tree, place = two if place % 2 == 1 else one, place // 2
+        elif kind == "zip" and one[3] > two[3]:
+            tree, place = one, place - two[3]
+        elif place < one[3]:
+            tree = one
         else:
-            tree, place = tree[2], place - ahead
+            tree, place = two, place - one[3]
     return (tree[1], tree[2] + place)
