@@ -62,6 +62,19 @@ def rest_in(plan, count):
     return (plan[0], one, two)
 
 
+def joined_in(plan, name, many):
+    if plan[0] == "lane":
+        return lane(name, plan[3] + many, plan[2]) if plan[1] == name else plan
+    return (plan[0], joined_in(plan[1], name, many), joined_in(plan[2], name, many))
+
+
+def text_in(plan):
+    """The string of a plan."""
+    if plan[0] == "lane":
+        return plan[1] + str(plan[3]) + ("@" + str(plan[2]) if plan[2] else "")
+    return "(" + text_in(plan[1]) + (" + " if plan[0] == "zip" else " > ") + text_in(plan[2]) + ")"
+
+
 def difference_of(one, two):
     first, second = order_of(one), order_of(two)
     for place in range(max(len(first), len(second))):
@@ -123,6 +136,28 @@ def chain(lanes, many, left=False, kind="zip"):
         row = lane(lane_name(at), many)
         plan = (kind, plan, row) if left else (kind, row, plan)
     return plan
+
+
+class SlowRoad:
+    """A live road followed car by car, with all that it has kept ahead of each call."""
+
+    def __init__(self, plan):
+        counts = {row[1]: 0 for row in lanes_in(plan)}
+        self.states = [(plan, 0, [], counts)]
+
+    def leave(self, count, logged):
+        plan, gone, log, counts = self.states[-1]
+        cars = order_of(plan)[:count]
+        counts = {name: many + [car[0] for car in cars].count(name) for name, many in counts.items()}
+        self.states.append((rest_in(plan, count), gone + count, log + cars if logged else log, counts))
+        return cars
+
+    def arrive(self, name, many):
+        plan, *others = self.states[-1]
+        self.states.append((joined_in(plan, name, many), *others))
+
+    def undo(self):
+        self.states.pop()
 
 
 class Always:

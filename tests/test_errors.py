@@ -2,7 +2,7 @@
 
 import unittest
 
-from brute import FAR, P, Always, chain, lane
+from brute import FAR, P, chain, lane
 from ziplanes import errors
 from ziplanes.delays import delay_of, first_delayed, greatest_delay
 from ziplanes.errors import (
@@ -17,49 +17,15 @@ from ziplanes.plans import joined, lanes_of, path_of, rest_after, size_of
 from ziplanes.rows import (
     count_trees, count_with_place, earliest_place, earliest_tree, latest_place, nth_tree, possible_places, tree_rank,
 )
+from wrong import (
+    LETTERS, NO_CARS_OF_P, NO_INTEGERS, NO_LABELS, NO_NAMES_OF_P, NO_PLANS, NO_ROWS, NO_SHAPES, ROW, WrongCalls,
+)
 
 NAMES = [
     "InvalidPlanError", "InvalidCarError", "InvalidNameError", "InvalidNumberError", "InvalidRowError",
     "InvalidLabelsError", "InvalidShapeError", "InvalidRoadError", "InvalidFormatError", "SameNameError",
     "TooManyError", "EmptyHistoryError",
 ]
-
-NO_PLANS = [
-    None, True, 0, "lane", b"lane", (), [], {}, object(), Always(), len, 1.5,
-    ["lane", "a", 0, 3], ("lane", "a", True, 3), ("lane", "a", 0, False), ("lane", "a", -1, 3), ("lane", "a", 0, -1),
-    ("lane", "A", 0, 3), ("zip", lane("a", 1), lane("a", 2)), ("zip", lane("a", 1)), list(P), chain(41, 1),
-]
-NO_NAMES = ["d", "", "A", "ab", b"a", None, 0, True, ["a"], ("a",), {"a": 1}, Always(), lane("a", 3)]
-NO_CARS = [
-    ("a", 3), ("a", -1), ("d", 0), ("b", 2), ("a", True), ("a", False), ("a", "0"), ("a", 0.0), ["a", 0], ("a",),
-    ("a", 0, 0), (0, "a"), (["a"], 0), "a0", None, 0, (), Always(), (Always(), 0), ("a", None), {"a": 0},
-]
-NO_INTEGERS = [True, False, None, "1", b"1", 1.0, [1], (1,), (), {}, Always(), -1]
-ROW = [lane("a", 3), lane("b", 2), lane("c", 4)]
-LETTERS = "abcdefghijklm"
-
-
-class OddList(list):
-    """A kind of its own, not exactly a list."""
-
-
-NO_ROWS = [
-    None, True, 0, "a", (), [], {}, object(), Always(), tuple(ROW), OddList(ROW), lane("a", 1), [P], [lane("a", 1), P],
-    [lane("a", 1), lane("a", 2)], [lane("a", 1), lane("b", 2), lane("a", 0, 9)], [lane(name, 0) for name in LETTERS],
-    [list(lane("a", 1))], [lane("a", True)], [lane("a", 1, False)], [lane("a", -1)], [lane("A", 1)], ["a"], [None],
-    [[]], [()], [Always()], [lane(Always(), 1)], [lane("a", 1), None], {"a": lane("a", 1)}, [lane(["a"], 1)],
-]
-NO_LABELS = [
-    None, True, 0, "abc", (), [], {}, object(), Always(), ("a",), OddList(["a"]), ["a"] * 101, list("abcdefghi"), ["A"],
-    [""], ["abcdefghi"], ["a", 1], ["a", True], ["a", None], ["a", b"a"], [["a"]], [("a",)], ["a1"], ["a", "\u00e9"],
-    [Always()], ["a b"], {"a": 1}, [["a"], "a"], [lane("a", 1)],
-]
-NO_SHAPES = [
-    None, True, 0, b"l", (), [], ["l"], {}, object(), Always(), "", "z", "zl", "ll", "lz", "lzl", "zlll", "zllz", "zzll",
-    "L", "ZLL", "a", " l", "l ", "zl l", "l\n", "zlx", "1", "z" * 4000, "l" * 4000, "zl" * 2000,
-    "tll", "ztlll", "zltll", "tzlll", "t", "tl", "zl" * 8 + "l", "z" * 8 + "l" * 9, "zl" * 39 + "l", "zl" * 40 + "l",
-]
-
 
 def calls_of_plan():
     """Each function with a plan first, with whatever behind it that may be wrong too."""
@@ -101,13 +67,7 @@ class ErrorClasses(unittest.TestCase):
             self.assertEqual(getattr(errors, name).__module__, "ziplanes.errors")
 
 
-class WrongArguments(unittest.TestCase):
-    def wrong(self, error, function, *arguments, **more):
-        with self.subTest(function=function.__name__, arguments=arguments, more=more):
-            with self.assertRaises(error) as caught:
-                function(*arguments, **more)
-            self.assertIs(type(caught.exception), error)
-
+class WrongArguments(WrongCalls):
     def test_plan_is_checked_first(self):
         for function, rest in calls_of_plan():
             for value in NO_PLANS:
@@ -119,7 +79,7 @@ class WrongArguments(unittest.TestCase):
             self.wrong(InvalidPlanError, first_difference, one=P, two=value)
 
     def test_name(self):
-        for name in NO_NAMES:
+        for name in NO_NAMES_OF_P:
             self.wrong(InvalidNameError, path_of, P, name)
             self.wrong(InvalidNameError, pieces_of, P, name)
             self.wrong(InvalidNameError, joined, P, name, 1)
@@ -127,7 +87,7 @@ class WrongArguments(unittest.TestCase):
                 self.wrong(InvalidNameError, joined, P, name, many)
 
     def test_car(self):
-        for car in NO_CARS:
+        for car in NO_CARS_OF_P:
             self.wrong(InvalidCarError, place_of, P, car)
         shifted = ("then", lane("a", 2, 5), lane("b", 0, 7))
         for car in [("a", 4), ("a", 7), ("a", 0), ("b", 7), ("b", 0)]:
@@ -155,12 +115,12 @@ class WrongArguments(unittest.TestCase):
             function(lane("a", 0), 0)
 
     def test_delays(self):
-        for car in NO_CARS:
+        for car in NO_CARS_OF_P:
             self.wrong(InvalidCarError, delay_of, P, car, "a", 1)
             self.wrong(InvalidCarError, delay_of, P, car, "d", -1)
         # Cars that are there only when others have joined are none of the plan.
         self.wrong(InvalidCarError, delay_of, P, ("a", 3), "a", 5)
-        for name in NO_NAMES:
+        for name in NO_NAMES_OF_P:
             self.wrong(InvalidNameError, delay_of, P, ("a", 0), name, 1)
             for function in [first_delayed, greatest_delay]:
                 self.wrong(InvalidNameError, function, P, name, 1)
@@ -179,12 +139,12 @@ class WrongArguments(unittest.TestCase):
 
     def test_cars_of_rows(self):
         for function in [earliest_place, latest_place, earliest_tree, possible_places]:
-            for car in NO_CARS + [("c", 4)]:
+            for car in NO_CARS_OF_P + [("c", 4)]:
                 self.wrong(InvalidCarError, function, ROW, car)
             self.wrong(InvalidCarError, function, [lane("a", 0, 3)], ("a", 3))
             self.wrong(InvalidCarError, function, [lane("a", 2, 3)], ("a", 2))
             self.wrong(InvalidCarError, function, [lane("a", 2, 3)], ("a", 5))
-        for car in NO_CARS:
+        for car in NO_CARS_OF_P:
             for place in [0, -1, True, None, 9]:
                 self.wrong(InvalidCarError, count_with_place, ROW, car, place)
 

@@ -56,6 +56,27 @@ EXAMPLES = {
 >>> [len(plans_with(list("abacabccc"))), [shape_of(plan) for plan in plans_with(list("abc"))], plan_with("zzlll", list("abc"))[1]]
 [1, ['zlzll', 'zzlll'], ('zip', ('lane', 'a', 0, 1), ('lane', 'c', 0, 1))]
 ''',
+    23: r'''
+>>> from ziplanes.roads import Lane, Road, Then, Zip
+>>> road = Lane("a", 3) + (Lane("b", 2) + Lane("c", 4))
+>>> [road == Road.read("(a3 + (b2 + c4))"), road(6), ("c", 4) in road, len(road), road.names, road.told()]
+[True, ('c', 1), False, 3, ['a', 'b', 'c'], ['cars 9', 'lanes 3', 'zip']]
+>>> [list((Lane("a", 1) >> Lane("b", 2)).cars()), list(road.rest(7).cars()), road.sides[0].name, Road.is_car(("a", 0))]
+[[('a', 0), ('b', 0), ('b', 1)], [('c', 2), ('c', 3)], 'a', True]
+''',
+    26: r'''
+>>> from ziplanes.live import LiveRoad, LoggedCountingRoad
+>>> P = ("zip", ("lane", "a", 0, 3), ("zip", ("lane", "b", 0, 2), ("lane", "c", 0, 4)))
+>>> live = LoggedCountingRoad(P)
+>>> [live.go(2), live.arrive("b", 1), live.go(3), live.ahead_of(("b", 2)), live.undo(), live.peek(2), live.counts, live.report()]
+[[('a', 0), ('b', 0)], None, [('a', 1), ('c', 0), ('a', 2)], 2, None, [('a', 1), ('c', 0)], [('a', 1), ('b', 1), ('c', 0)], ['left 8', 'gone 2', 'lanes 2', 'logged 2']]
+''',
+    27: r'''
+>>> from ziplanes.text import format_plan, listed, parse_plan
+>>> P = ("zip", ("lane", "a", 0, 3), ("zip", ("lane", "b", 0, 2), ("lane", "c", 0, 4)))
+>>> [format_plan(P), parse_plan("(a3@12 > b0)"), listed(P, 5, 2)]
+['(a3 + (b2 + c4))', ('then', ('lane', 'a', 12, 3), ('lane', 'b', 0, 0)), ['    5 b            1', '    6 c            1']]
+''',
 }
 
 

@@ -34,11 +34,38 @@ INTERFACE = {
         "labels_of": "(plan, count)", "shape_of": "(plan)", "plan_with": "(shape, labels)",
         "plans_with": "(labels)",
     },
+    "text": {
+        "format_plan": "(plan)", "parse_plan": "(text)", "listed": "(plan, first, count)",
+    },
+}
+
+# For each class its bases, its properties, and its methods with their parameters; these stand in the class itself.
+CLASSES = {
+    "roads": {
+        "Road": (["object"], ["plan", "size", "names"], {
+            "__init__": "(self, plan)", "rest": "(self, count)", "cars": "(self, first=0)", "told": "(self)",
+            "__call__": "(self, place)", "__len__": "(self)", "__eq__": "(self, other)", "__add__": "(self, other)",
+            "__rshift__": "(self, other)", "__contains__": "(self, value)",
+        }),
+        "Lane": (["Road"], ["name"], {"__init__": "(self, name, many, first=0)"}),
+        "Zip": (["Road"], ["sides"], {"__init__": "(self, one, two)"}),
+        "Then": (["Road"], ["sides"], {"__init__": "(self, one, two)"}),
+    },
+    "live": {
+        "LiveRoad": (["object"], ["plan", "gone"], {
+            "__init__": "(self, plan)", "go": "(self, count=1)", "peek": "(self, count=1)", "skip": "(self, count)",
+            "arrive": "(self, name, many)", "undo": "(self)", "ahead_of": "(self, car)", "report": "(self)",
+            "twin": "(self)", "__len__": "(self)", "__eq__": "(self, other)",
+        }),
+        "LoggedRoad": (["LiveRoad"], ["log"], {"__init__": "(self, plan)"}),
+        "CountingRoad": (["LiveRoad"], ["counts"], {"__init__": "(self, plan)"}),
+        "LoggedCountingRoad": (["LoggedRoad", "CountingRoad"], [], {"__init__": "(self, plan)"}),
+    },
 }
 
 BUILTINS = (
     "len range enumerate zip min max sum abs sorted reversed int str bool bytes list tuple dict set frozenset "
-    "isinstance ord repr any all divmod pow type ValueError"
+    "isinstance ord repr any all divmod pow type super property staticmethod classmethod ValueError"
 ).split()
 
 
@@ -68,6 +95,27 @@ class Interface(unittest.TestCase):
                 function = getattr(module, name)
                 self.assertEqual(function.__module__, module.__name__)
                 self.assertEqual(str(inspect.signature(function)), signature)
+
+    def test_classes_have_what_is_listed_for_them(self):
+        for file, classes in CLASSES.items():
+            module = importlib.import_module("ziplanes." + file)
+            for name, (bases, properties, methods) in classes.items():
+                kind = getattr(module, name)
+                self.assertEqual(kind.__module__, module.__name__)
+                self.assertEqual([base.__name__ for base in kind.__bases__], bases)
+                for item in properties:
+                    self.assertIsInstance(vars(kind)[item], property, (name, item))
+                    self.assertIsNone(vars(kind)[item].fset)
+                for item, signature in methods.items():
+                    self.assertEqual(str(inspect.signature(vars(kind)[item])), signature, (name, item))
+
+    def test_class_values_and_methods_without_objects(self):
+        from ziplanes.roads import Road
+        self.assertEqual(vars(Road)["MOST"], 40)
+        self.assertIsInstance(vars(Road)["read"], classmethod)
+        self.assertIsInstance(vars(Road)["is_car"], staticmethod)
+        self.assertEqual(str(inspect.signature(Road.read)), "(text)")
+        self.assertEqual(str(inspect.signature(Road.is_car)), "(value)")
 
 
 class Form(unittest.TestCase):

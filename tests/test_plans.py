@@ -3,11 +3,8 @@
 import unittest
 
 from brute import P, Always, chain, drawn_plans, lane, lane_name, lanes_in, order_of, path_in, rest_in
+from wrong import OddTuple
 from ziplanes.plans import is_plan, joined, lanes_of, path_of, rest_after, size_of
-
-
-class OddTuple(tuple):
-    """A kind of its own, not exactly a tuple."""
 
 
 class IsPlan(unittest.TestCase):

@@ -12,11 +12,16 @@ def place_on_way(way, number):
     return place_on(path, at) if 0 <= at < lane[3] else None
 
 
+def find_place(plan, value):
+    """The place of any value in a plan; None if it is no car of the plan."""
+    parts = parts_in(plan)
+    way = find_way(parts, value[0]) if is_car(value) else None
+    return None if way is None else place_on_way(way, value[1])
+
+
 def place_of(plan, car):
     """The place of a car."""
-    parts = parts_in(plan)
-    way = find_way(parts, car[0]) if is_car(car) else None
-    place = None if way is None else place_on_way(way, car[1])
+    place = find_place(plan, car)
     if place is None:
         raise InvalidCarError("not a car of the plan")
     return place

@@ -73,6 +73,12 @@ def is_plan(value):
     return len(parts_of(value)) > 0
 
 
+def check_plan(value):
+    """Raise InvalidPlanError unless a value is a plan."""
+    if not is_plan(value):
+        raise InvalidPlanError("not a plan")
+
+
 def size_of(plan):
     """The number of the cars of a plan."""
     return sum([lane[3] for lane in lanes_of(plan)])
